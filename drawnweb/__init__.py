@@ -1,0 +1,1 @@
+"""Drawnweb: webs drawn together."""
