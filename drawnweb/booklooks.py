@@ -1,7 +1,7 @@
 """Whether a thing is a book: why a told web can't be drawn, looked at branch by branch."""
 
 from drawnweb.halves import free_places, giving, is_apart, is_dear, is_few, is_untied, open_to_free
-from drawnweb.things import is_tuple_of, is_whole
+from drawnweb.things import is_tuple_of, is_whole, is_worded
 
 
 def shows_book(web, told, what, below, thing):
@@ -11,7 +11,7 @@ def shows_book(web, told, what, below, thing):
 
 def is_book(web, told, given, what, below, thing):
     """Whether the thing is a book of this half drawing."""
-    if not isinstance(thing, tuple) or len(thing) == 0 or not isinstance(thing[0], str):
+    if not is_worded(thing):
         return False
     if thing[0] == "ask":
         return is_asking(web, told, given, what, below, thing)

@@ -4,7 +4,8 @@ A half drawing is a dict from places of the web to the told places they are give
 for those given to none. Places that aren't in it are free.
 """
 
-from drawnweb.webs import nears, pieces, tied_between
+from drawnweb.drawings import extra
+from drawnweb.webs import nears, steps_from, tied_between
 
 
 def free_places(web, given):
@@ -15,6 +16,11 @@ def free_places(web, given):
 def given_to(given, h):
     """The rising tuple of the places given to the told place h."""
     return tuple(sorted([place for place in given if given[place] == h]))
+
+
+def lots_given(told, given):
+    """For each told place, in order, what is given to it."""
+    return tuple([given_to(given, h) for h in told[0]])
 
 
 def lacking(told, given):
@@ -35,7 +41,10 @@ def is_few(web, told, given):
 def is_apart(web, given, h):
     """Whether places given to the told place h are in two pieces of its room."""
     mine = given_to(given, h)
-    return len([piece for piece in pieces(web, room(web, given, h)) if any([place in mine for place in piece])]) > 1
+    if len(mine) < 2:
+        return False
+    together = steps_from(nears(web), room(web, given, h), mine[0])
+    return any([place not in together for place in mine])
 
 
 def is_untied(web, given, h, k):
@@ -54,14 +63,12 @@ def is_dear(web, told, given, what, below):
 
 def draws_given(told, given):
     """How many places the told places that have some have, each less 1."""
-    return sum([len(given_to(given, h)) - 1 for h in told[0] if given_to(given, h)])
+    return sum([len(lot) - 1 for lot in lots_given(told, given) if lot])
 
 
 def cuts_given(web, told, given):
     """How many pairs of told places that aren't tied have a tie between what is given to them."""
-    places, ties = told
-    loose = [(h, k) for h in places for k in places if h < k and (h, k) not in ties]
-    return len([h for h, k in loose if tied_between(web, given_to(given, h), given_to(given, k))])
+    return len(extra(web, told, lots_given(told, given)))
 
 
 def are_twins(told, h, k):

@@ -137,6 +137,11 @@ LOOKS = {
 }
 
 
+def is_word(thing):
+    """Whether the thing, which may be anything, is the word of a kind."""
+    return isinstance(thing, str) and thing in LOOKS
+
+
 def is_kind(word, web):
     """Whether the web is of the kind of this word."""
     look = LOOKS[word]

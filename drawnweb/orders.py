@@ -1,6 +1,13 @@
 """Orders of a web's places, their widths and their spreads."""
 
+from drawnweb.things import is_whole
 from drawnweb.webs import nears, steps_from
+
+
+def is_order(web, thing):
+    """Whether the thing, which may be anything, is an order of the web."""
+    # Only whole numbers can be sorted here without another look.
+    return isinstance(thing, tuple) and all([is_whole(place) for place in thing]) and tuple(sorted(thing)) == web[0]
 
 
 def width_at(ties_of, some, place):

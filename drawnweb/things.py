@@ -15,3 +15,8 @@ def is_tuple_of(thing, many):
 def rises(items):
     """Whether each of these, which can be compared, is below the next."""
     return all([items[k] < items[k + 1] for k in range(len(items) - 1)])
+
+
+def is_worded(thing):
+    """Whether the thing is a tuple that begins with a text."""
+    return isinstance(thing, tuple) and len(thing) > 0 and isinstance(thing[0], str)

@@ -36,6 +36,16 @@ def is_pair(places, thing):
     return is_whole(a) and is_whole(b) and a < b and a in places and b in places
 
 
+def are_some(web, thing):
+    """Whether the thing, which may be anything, is a rising tuple of the web's places."""
+    return are_places(thing) and all([place in web[0] for place in thing])
+
+
+def is_tie(web, thing):
+    """Whether the thing, which may be anything, is a tie of the web."""
+    return is_pair(web[0], thing) and thing in web[1]
+
+
 def near(web, place):
     """The rising tuple of the places tied to this one."""
     return nears(web)[place]
@@ -105,6 +115,15 @@ def way(web, some, one, other):
     return tuple(told)
 
 
+def joins(tie, some, others):
+    """Whether the tie has one end in some and one in the others."""
+    a, b = tie
+    return (a in some and b in others) or (a in others and b in some)
+
+
 def tied_between(web, some, others):
     """Whether a tie of the web has one end in some and one in the others."""
-    return any([(a in some and b in others) or (a in others and b in some) for a, b in web[1]])
+    for tie in web[1]:
+        if joins(tie, some, others):
+            return True
+    return False

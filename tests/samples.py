@@ -128,3 +128,26 @@ def held_forms(form, known):
 def without(many, ties, gone):
     left = [place for place in range(many) if place != gone]
     return form_of((tuple(left), [tie for tie in ties if gone not in tie]))
+
+
+def refused(case, refusal, call, *args):
+    """The refusal, which must be of just this class, and come again when asked again."""
+    for _ in range(2):
+        try:
+            answer = call(*args)
+        except refusal as error:
+            case.assertIs(type(error), refusal)
+            told = error
+        else:
+            case.fail(f"answered {answer!r}")
+    return told
+
+
+def some_rows(rng, web, most, deeds, done):
+    """Rows of random deeds of the web, each as long as it lasts, at most so long."""
+    while True:
+        row, now = (), web
+        while deeds(now) and len(row) < most:
+            deed = rng.choice(deeds(now))
+            row, now = row + (deed,), done(now, deed)
+        yield row, now
