@@ -18,13 +18,13 @@ def side_of(web, wall, piece):
 
 def holds_on(told, many):
     """Whether the told web has more than so many places and hangs together without any so many or fewer."""
-    places, ties = told
+    places = told[0]
     if len(places) <= many:
         return False
-    # Where it doesn't hang together two places are left that aren't tied, and no way between them.
+    # Some place is always left; where they don't hang together, two are left without a way between them.
     for a in places:
         for b in places:
-            if a < b and (a, b) not in ties and is_parted(told, places, a, b, many):
+            if a < b and is_parted(told, places, a, b, many):
                 return False
     return True
 
@@ -36,7 +36,7 @@ def is_parted(web, some, a, b, many):
         return True
     if many <= 0:
         return False
-    # One of the places of this way must go, whichever others do.
+    # A place of this way must go, whichever others do; a tie from a to b has none.
     for gone in path[1:-1]:
         if is_parted(web, tuple([place for place in some if place != gone]), a, b, many - 1):
             return True

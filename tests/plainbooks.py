@@ -138,3 +138,51 @@ def cost(web, told, what, lots):
         return sum(len(lot) - 1 for lot in lots.values())
     return len([1 for h, k in itertools.combinations(told[0], 2) if (h, k) not in told[1]
                 and any(tied(web, a, b) for a in lots[h] for b in lots[k])])
+
+
+class Open(Exception):
+    """More places would be asked than may be."""
+
+
+def searched(half, most):
+    """What a search tells, step by step by the words of point 17, and the places it asked."""
+    asked = []
+
+    def go(half):
+        closings = half.closings()
+        if closings:
+            return ("none", closings[0])
+        if not half.free:
+            return ("drawn", (tuple(tuple(sorted(half.lots[h])) for h in half.told[0]), least_ties(half)))
+        if len(asked) == most:
+            raise Open
+        place = min(half.free)
+        asked.append(place)
+        books = []
+        for h in half.choices():
+            word, found = go(half.give(place, h))
+            if word == "drawn":
+                return (word, found)
+            books.append(found)
+        return ("none", ("ask", place, tuple(books)))
+
+    try:
+        return go(half), asked
+    except Open:
+        return ("open", None), asked
+
+
+def least_ties(half):
+    """For each told tie the least tie of the web between its lots."""
+    return tuple(min((min(a, b), max(a, b)) for a in half.lots[h] for b in half.lots[k] if tied(half.web, a, b))
+                 for h, k in half.told[1])
+
+
+def all_costs(web, told, what):
+    """The costs of all drawings, rising, each once."""
+    costs = set()
+    for owners in itertools.product((None,) + told[0], repeat=len(web[0])):
+        lots = {h: {place for place, owner in zip(web[0], owners) if owner == h} for h in told[0]}
+        if all(lots.values()) and drawn_by(web, told, lots):
+            costs.add(cost(web, told, what, lots))
+    return sorted(costs)
