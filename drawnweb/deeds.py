@@ -1,6 +1,6 @@
 """Deeds: ties cut, tied places drawn together, places dropped; and the lots that come of them."""
 
-from drawnweb.errors import NoDeed
+from drawnweb.errors import NoBack, NoDeed
 from drawnweb.things import is_tuple_of, is_worded
 from drawnweb.webs import are_some, is_tie, within
 
@@ -53,6 +53,13 @@ def ties_drawn(ties, a, b):
     """The ties when what else was tied to b is tied to a."""
     ends = [(a if one == b else one, a if other == b else other) for one, other in ties]
     return tuple(sorted({(min(pair), max(pair)) for pair in ends if pair[0] != pair[1]}))
+
+
+def undone(earlier):
+    """What was as it was ahead of the last deed, taken out of these; refused with NoBack where there is none."""
+    if not earlier:
+        raise NoBack("there is no deed to undo")
+    return earlier.pop()
 
 
 def lots_behind(web, row):

@@ -28,11 +28,18 @@ def read_row(text):
 
 def read_deed(text):
     """The deed of whatever web that is so written."""
-    parts = parts_of(text, " ")
-    places = read_places(parts[1:])
-    if (parts[0], len(places)) not in (("cut", 2), ("draw", 2), ("drop", 1)):
+    word, numbers = deed_words(text)
+    return (word,) + read_places(numbers)
+
+
+def deed_words(text):
+    """The word and the numbers, as they are written, of a deed of any numbers that is so written."""
+    word, *numbers = parts_of(text, " ")
+    if (word, len(numbers)) not in (("cut", 2), ("draw", 2), ("drop", 1)):
         raise NoText("no deed is so written")
-    return (parts[0],) + places
+    if not all([is_number(part) for part in numbers]):
+        raise NoText("a deed's places are numbers")
+    return (word, numbers)
 
 
 def read_lots(text):
@@ -57,8 +64,11 @@ def read_places(parts):
 
 def read_place(text):
     """The place that is so written."""
-    if not 1 <= len(text) <= MOST_FIGURES or not all([sign in FIGURES for sign in text]):
-        raise NoText("a place is written by one figure or two")
-    if text[0] == "0" and text != "0":
-        raise NoText("no 0 is written ahead")
+    if not is_number(text) or len(text) > MOST_FIGURES:
+        raise NoText("a place is written by one figure or two, no 0 ahead")
     return int(text)
+
+
+def is_number(text):
+    """Whether a whole number is so written, by figures, no 0 ahead but in 0."""
+    return text == "0" or (text[:1] not in ("", "0") and all([sign in FIGURES for sign in text]))

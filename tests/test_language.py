@@ -164,10 +164,15 @@ class Language(unittest.TestCase):
                     self.assertIn(node.id, known, (path.name, node.lineno))
 
     def test_attributes(self):
-        own = {node.attr for tree in TREES.values() for node in ast.walk(tree)
-               if isinstance(node, ast.Attribute) and isinstance(node.ctx, ast.Store)}
-        own |= {part.name for tree in TREES.values() for node in tree.body if isinstance(node, ast.ClassDef)
-                for part in node.body if isinstance(part, ast.FunctionDef)}
+        kept = {node.attr for tree in TREES.values() for node in ast.walk(tree)
+                if isinstance(node, ast.Attribute) and isinstance(node.ctx, ast.Store)}
+        methods = [part.name for tree in TREES.values() for node in tree.body if isinstance(node, ast.ClassDef)
+                   for part in node.body if isinstance(part, ast.FunctionDef) and part.name != "__init__"]
+        self.assertEqual(len(set(methods)), len(methods))
+        self.assertEqual(kept & set(methods), set())
+        for name in kept | set(methods):
+            self.assertFalse([name for kind in (str, int, list, tuple, dict, set, bytes) if hasattr(kind, name)], name)
+        own = kept | set(methods)
         for path, tree in TREES.items():
             for node in ast.walk(tree):
                 if isinstance(node, ast.Attribute):
