@@ -77,8 +77,10 @@ def held(web):
     at = 0
     # Alike webs lead to alike ones, so each form is gone on from once.
     while at < len(met):
-        for behind in [form(web_behind(met[at], deed)) for deed in deeds(met[at])]:
+        now = met[at]
+        at += 1
+        for deed in deeds(now):
+            behind = form(web_behind(now, deed))
             if behind not in met:
                 met.append(behind)
-        at += 1
     return tuple(sorted(met))
